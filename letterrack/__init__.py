@@ -1,0 +1,1 @@
+"""Letterrack: words of tiles laid across one another."""
