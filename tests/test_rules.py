@@ -572,7 +572,7 @@ def turned_told(told):
 
 
 class TestAllLayings(unittest.TestCase):
-    """Every laying of small boards, and many of greater ones, against the rules told once more."""
+    """On small boards all layings of up to four of three signs, on greater ones many, against the rules told once more."""
 
     def check_all(self, rows, begin, words, rack, signs, many):
         board, book = plain(rows, begin), Book(words)
