@@ -6,6 +6,7 @@ import unittest
 from letterrack.boards import Board
 from letterrack.errors import NoBoard, RackError
 from letterrack.signs import turned_laying
+from tests.helper import no_marks, parts, plain
 
 ROWS = ("c.t", "aT.")
 MARKS = (".2b", "3c4")
@@ -26,18 +27,6 @@ NO_BEGINS = (
     ("0", 0), (0, "0"), ("0", "0"), (None, 0), (0, None), (None, None), ((0,), 0), (0, (0,)), ((0, 0),),
     ((0, 0), (0, 0)), (), (0,), (0, 0, 0), (1, 2, "a"), 0, 1, 12, True, False, None, "", "00", "12", "ab",
 )
-
-
-def parts(board):
-    return (board.rows, board.marks, board.begin)
-
-
-def no_marks(rows):
-    return ("." * len(rows[0]),) * len(rows)
-
-
-def plain(rows, begin=(0, 0)):
-    return Board(rows, no_marks(rows), begin)
 
 
 def random_board(source, signs="..abcXY"):

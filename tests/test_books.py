@@ -6,7 +6,7 @@ import unittest
 from letterrack.books import Book
 from letterrack.errors import NoText, NoWord, RackError, Twice
 from letterrack.machines import Machine, turned_beginnings
-from tests.tables import check_least
+from tests.helper import check_least
 
 NO_WORDS = (
     "", "a", "abcdefghij", "abcdefghijkl", "Cat", "cAt", "CAT", "caT", "c+at", "ca?", "?at", "c.t", "c-t", "c4t",

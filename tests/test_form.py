@@ -1,4 +1,4 @@
-"""The form of the package's own files: those of the rules L1 to L28 that a plain walk through the code can check, not all."""
+"""The form of the package's own files: those of the rules L1 to L28 that a plain walk through the code can check."""
 
 import ast
 import builtins

@@ -4,7 +4,7 @@ import random
 import unittest
 
 from letterrack.machines import Machine, turned_beginnings
-from tests.tables import check_least
+from tests.helper import check_least
 
 SOME_SETS = (
     (),

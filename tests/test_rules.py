@@ -10,106 +10,10 @@ from letterrack.books import Book
 from letterrack.errors import Apart, Crooked, Gap, Lacking, NoLaying, NoWord, RackError, Taken
 from letterrack.rules import check_laying, formed
 from letterrack.signs import turned_laying
+from tests.helper import apart_by, broken, crooked_by, fields, gap_by, lacking_by, laying_of, no_word_by, parts
+from tests.helper import plain, plain_words, random_rows, taken_by
 
 ORDER = ("NoLaying", "Taken", "Crooked", "Gap", "Apart", "Lacking", "NoWord")
-
-
-def plain(rows, begin=(0, 0)):
-    return Board(rows, ("." * len(rows[0]),) * len(rows), begin)
-
-
-def parts(board):
-    return (board.rows, board.marks, board.begin)
-
-
-def laying_of(cells, signs):
-    return tuple((row, column, sign) for (row, column), sign in zip(cells, signs, strict=True))
-
-
-# What 12 and 13 say, told once more by other means: a dict of the cells that aren't free, each rule by itself.
-
-
-def held_cells(rows):
-    return {(r, c): sign for r, line in enumerate(rows) for c, sign in enumerate(line) if sign != "."}
-
-
-def plain_run(held, cell, down, right):
-    row, column = cell
-    while (row - down, column - right) in held:
-        row, column = row - down, column - right
-    first, signs = (row, column), ""
-    while (row, column) in held:
-        signs += held[(row, column)]
-        row, column = row + down, column + right
-    return first, signs
-
-
-def plain_words(rows, laying):
-    held = held_cells(rows)
-    held.update({(row, column): sign for row, column, sign in laying})
-    across = len({row for row, _, _ in laying}) == 1
-    main, other = (0, 1) if across else (1, 0)
-    asked = [(laying[0][:2], main)] + [(triple[:2], other) for triple in laying]
-    told = []
-    for cell, way in asked:
-        first, signs = plain_run(held, cell, way, 1 - way)
-        if len(signs) > 1:
-            told.append(first + (way, signs))
-    return tuple(told)
-
-
-def straight_cells(laying):
-    (row, column), (last_row, last_column) = laying[0][:2], laying[-1][:2]
-    return list(itertools.product(range(row, last_row + 1), range(column, last_column + 1)))
-
-
-def taken_by(rows, laying):
-    held = held_cells(rows)
-    return [("Taken",) + triple[:2] for triple in laying if triple[:2] in held]
-
-
-def crooked_by(laying):
-    straight = len({triple[0] for triple in laying}) == 1 or len({triple[1] for triple in laying}) == 1
-    return [] if straight else [("Crooked",)]
-
-
-def gap_by(rows, laying):
-    cells = {triple[:2] for triple in laying} | set(held_cells(rows))
-    return [("Gap",) + cell for cell in straight_cells(laying) if cell not in cells]
-
-
-def apart_by(rows, begin, laying):
-    held = set(held_cells(rows))
-    cells = {triple[:2] for triple in laying}
-    if not held:
-        return [] if begin in cells else [("Apart",)]
-    near = {cell for r, c in cells for cell in ((r - 1, c), (r + 1, c), (r, c - 1), (r, c + 1))}
-    return [] if near & held else [("Apart",)]
-
-
-def lacking_by(rack, laying):
-    tiles = ["?" if sign.isupper() else sign for _, _, sign in laying]
-    return [("Lacking", tile) for at, tile in enumerate(tiles) if tiles[: at + 1].count(tile) > rack.count(tile)]
-
-
-def no_word_by(rows, words, laying):
-    told = [signs.lower() for _, _, _, signs in plain_words(rows, laying)] or [laying[0][2].lower()]
-    return [("NoWord", word) for word in told if word not in words]
-
-
-def broken(rows, begin, words, rack, laying):
-    """All that a laying (11) breaks, in the order of the rules; what the gaps of a crooked one are isn't told."""
-    told = taken_by(rows, laying) + crooked_by(laying)
-    if not crooked_by(laying):
-        told += gap_by(rows, laying)
-    return told + apart_by(rows, begin, laying) + lacking_by(rack, laying) + no_word_by(rows, words, laying)
-
-
-def fields(refusal):
-    told = (refusal.__class__.__name__,)
-    for name in ("row", "column", "tile", "word"):
-        told += (getattr(refusal, name),) if hasattr(refusal, name) else ()
-    return told
 
 
 def answer(board, book, rack, laying):
@@ -189,11 +93,6 @@ class TestFormed(unittest.TestCase):
                 turned = formed(plain(rows).turned(), turned_laying(laying))
                 turned = [(column, row, 1 - way, signs) for row, column, way, signs in turned]
                 self.assertEqual(sorted(turned), sorted(told))
-
-
-def random_rows(source, signs):
-    many, wide = source.randint(1, 6), source.randint(1, 6)
-    return tuple("".join(source.choice(signs) for _ in range(wide)) for _ in range(many))
 
 
 def random_straight(source):
@@ -572,7 +471,7 @@ def turned_told(told):
 
 
 class TestAllLayings(unittest.TestCase):
-    """On small boards all layings of up to four of three signs, on greater ones many, against the rules told once more."""
+    """All layings of up to four of three signs on small boards, many on greater ones, by the rules told once more."""
 
     def check_all(self, rows, begin, words, rack, signs, many):
         board, book = plain(rows, begin), Book(words)
