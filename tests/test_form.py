@@ -259,5 +259,41 @@ class TestForm(unittest.TestCase):
                         self.assertTrue(told)
 
 
+    def test_keywords(self):
+        keywords = {
+            "sorted": {"key", "reverse"}, "min": {"key", "default"}, "max": {"key", "default"}, "sum": {"start"},
+            "enumerate": {"start"}, "zip": {"strict"},
+        }
+
+        def check(name, node):
+            called = node.func.id if isinstance(node.func, ast.Name) else ""
+            given = {one.arg for one in node.keywords}
+            if hasattr(builtins, called) or not called:
+                self.assertLessEqual(given, keywords.get(called, set()))
+
+        self.for_each(ast.Call, check)
+
+    def test_what_stands_at_the_top_is_plain_and_only_read(self):
+        for name, tree in self.trees.items():
+            for node in tree.body:
+                if not isinstance(node, ast.Assign):
+                    continue
+                kept = of_kind(node.value, (ast.List, ast.Dict, ast.Set))
+                self.assertLessEqual(len(kept), 1, name)
+                if kept:
+                    self.check_only_read(tree, node.targets[0].id)
+
+    def check_only_read(self, tree, bound):
+        parents = parents_of(tree)
+        reading = (ast.Attribute, ast.Subscript, ast.Compare, ast.For, ast.comprehension)
+        for node in of_kind(tree, ast.Name):
+            if node.id == bound and isinstance(node.ctx, ast.Load):
+                above = parents[node]
+                with self.subTest(bound=bound, line=node.lineno):
+                    self.assertIsInstance(above, reading)
+                    self.assertIn(getattr(above, "attr", "get"), ("get", "items", "keys", "values"))
+                    self.assertIsInstance(getattr(above, "ctx", ast.Load()), ast.Load)
+
+
 if __name__ == "__main__":
     unittest.main()
