@@ -1,9 +1,12 @@
-"""What the document says of tables, rules, points and layings, told once more by other means than the program's."""
+"""What the document says, told once more by other means than the program's: tables, rules, points, layings; small games."""
 
 import itertools
 import math
 
 from letterrack.boards import Board
+from letterrack.books import Book
+from letterrack.errors import RackError
+from letterrack.games import Game
 
 SIGNS = "+abcdefghijklmnopqrstuvwxyz"
 
@@ -202,6 +205,25 @@ def fields(refusal):
     for name in ("row", "column", "tile", "word"):
         told += (getattr(refusal, name),) if hasattr(refusal, name) else ()
     return told
+
+
+def told_by(call, *given):
+    """What a call gives back, or its refusal's name and fields."""
+    try:
+        return call(*given)
+    except RackError as refusal:
+        return fields(refusal)
+
+
+# Small games, for the tests of games and desks.
+
+WORDS = ("ab", "ba", "aa", "aba", "bab", "cab", "abc")
+WORTHS = {"a": 1, "b": 10, "c": 100}
+NO_BONUS = (8, 0)
+
+
+def game_of(racks, bag, rows=("....", "...."), size=3, bonus=NO_BONUS, marks=None, begin=(0, 0)):
+    return Game(Board(rows, marks or no_marks(rows), begin), Book(WORDS), WORTHS, bonus, size, racks, bag)
 
 
 def random_rows(source, signs):

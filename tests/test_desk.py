@@ -12,17 +12,10 @@ from letterrack.errors import NoBack, NoLaying, NoRow, Over, RackError
 from letterrack.games import Game
 from letterrack.leaves import Leaves
 from letterrack.search import all_layings
-from tests.helper import fields, no_marks, parts
+from tests.helper import NO_BONUS, WORDS, WORTHS, fields, game_of, parts, told_by
 
-WORDS = ("ab", "ba", "aa", "aba", "bab", "cab", "abc")
-WORTHS = {"a": 1, "b": 10, "c": 100}
-NO_BONUS = (8, 0)
 NO_LEAVES = Leaves({}, {})
 ASKING = ("board", "rack", "points", "best", "many")
-
-
-def game_of(racks, bag, rows=("....", "...."), size=3, bonus=NO_BONUS, marks=None, begin=(0, 0)):
-    return Game(Board(rows, marks or no_marks(rows), begin), Book(WORDS), WORTHS, bonus, size, racks, bag)
 
 
 def desk_of(racks, bag, rows=("....", "...."), leaves=NO_LEAVES, size=3):
@@ -30,11 +23,7 @@ def desk_of(racks, bag, rows=("....", "...."), leaves=NO_LEAVES, size=3):
 
 
 def said_by(desk, row):
-    """The answer to a row, or its refusal's name and fields."""
-    try:
-        return desk.say(row)
-    except RackError as refusal:
-        return fields(refusal)
+    return told_by(desk.say, row)
 
 
 def asked(desk):
@@ -367,11 +356,7 @@ class TestNoRow(DeskCase):
 
 class TestGoThrough(DeskCase):
     def check_stopped(self, desk, text, told):
-        try:
-            answer = desk.go_through(text)
-        except RackError as refusal:
-            answer = fields(refusal)
-        self.assertEqual(answer, told)
+        self.assertEqual(told_by(desk.go_through, text), told)
 
     def test_one_row(self):
         desk = desk_of(("abc", "c"), "zyx")

@@ -5,21 +5,15 @@ import unittest
 
 from letterrack.boards import Board
 from letterrack.books import Book
-from letterrack.errors import NoBack, NoDeed, NoLaying, Over, RackError
+from letterrack.errors import NoBack, NoDeed, NoLaying, Over
 from letterrack.games import Game
 from letterrack.search import all_layings
 from letterrack.signs import turned_laying
-from tests.helper import broken, fields, laying_of, no_marks, parts, plain, plain_points
+from tests.helper import NO_BONUS, WORDS, WORTHS, broken, game_of, laying_of, no_marks, parts, plain, plain_points
+from tests.helper import told_by
 
-WORDS = ("ab", "ba", "aa", "aba", "bab", "cab", "abc")
-WORTHS = {"a": 1, "b": 10, "c": 100}
-NO_BONUS = (8, 0)
 AB = ((0, 0, "a"), (0, 1, "b"))
 PASS = ("pass",)
-
-
-def game_of(racks, bag, rows=("....", "...."), size=3, bonus=NO_BONUS, marks=None):
-    return Game(Board(rows, marks or no_marks(rows), (0, 0)), Book(WORDS), WORTHS, bonus, size, racks, bag)
 
 
 def stand_of(game):
@@ -29,18 +23,11 @@ def stand_of(game):
 
 
 def done_by(game, deed):
-    """The points of a deed, or its refusal's name and fields."""
-    try:
-        return game.do(deed)
-    except RackError as refusal:
-        return fields(refusal)
+    return told_by(game.do, deed)
 
 
 def back_by(game):
-    try:
-        return game.back()
-    except RackError as refusal:
-        return fields(refusal)
+    return told_by(game.back)
 
 
 class GameCase(unittest.TestCase):

@@ -10,18 +10,14 @@ from letterrack.books import Book
 from letterrack.errors import Apart, Crooked, Gap, Lacking, NoLaying, NoWord, RackError, Taken
 from letterrack.rules import check_laying, formed
 from letterrack.signs import turned_laying
-from tests.helper import apart_by, broken, crooked_by, fields, gap_by, lacking_by, laying_of, no_word_by, parts
-from tests.helper import plain, plain_words, random_rows, taken_by
+from tests.helper import apart_by, broken, crooked_by, gap_by, lacking_by, laying_of, no_word_by, parts
+from tests.helper import plain, plain_words, random_rows, taken_by, told_by
 
 ORDER = ("NoLaying", "Taken", "Crooked", "Gap", "Apart", "Lacking", "NoWord")
 
 
 def answer(board, book, rack, laying):
-    try:
-        given = check_laying(board, book, rack, laying)
-    except RackError as refusal:
-        return fields(refusal)
-    return given
+    return told_by(check_laying, board, book, rack, laying)
 
 
 class TestFormed(unittest.TestCase):
