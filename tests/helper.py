@@ -1,4 +1,4 @@
-"""What the document says, told once more by other means than the program's: tables, rules, points, layings; small games."""
+"""What the document says, told once more by other means than the program's; and small games to try it on."""
 
 import itertools
 import math
